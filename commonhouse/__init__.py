@@ -1,0 +1,1 @@
+"""Commonhouse: houses of sums, their one form, their parts, and the ways between them."""

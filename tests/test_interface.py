@@ -1,0 +1,47 @@
+"""The interface: each name that has landed is there, and takes as many arguments by their places."""
+
+import importlib
+import inspect
+import unittest
+
+FUNCTIONS = {
+    "numbers": {"common_measure": 2, "common_multiple": 2, "both": 2},
+    "primes": {"primes_of": 1},
+    "houses": {"is_house": 1, "is_thing": 2, "nought": 1, "plus": 3, "minus": 3, "times": 3, "size": 1, "things": 1},
+    "turns": {"turn": 2, "last_turn": 1, "nought_at": 2, "of_turn": 2},
+    "rows": {"is_rows": 2, "mixed": 3, "product": 3, "units": 1},
+    "steps": {"is_step": 2, "stepped": 2, "taken_back": 1},
+    "stairs": {"is_stair": 2, "stair_of": 2, "stair_with": 2, "mixing": 3},
+    "diagonal": {"diagonal": 2},
+    "given": {"is_given": 1},
+    "words": {"nought_or_not": 2},
+}
+
+FIELDS = {
+    "HouseError": None, "NoThing": None, "TooGreat": None, "NoFit": None, "NoText": None, "NoName": None,
+    "NoRow": None, "Endless": ["row"], "NoPaper": ["word", "number"], "NoTable": ["word", "numbers"],
+}
+
+
+class Interface(unittest.TestCase):
+    def test_functions(self):
+        for module, functions in FUNCTIONS.items():
+            found = importlib.import_module("commonhouse." + module)
+            for name, many in functions.items():
+                function = getattr(found, name)
+                self.assertTrue(inspect.isfunction(function), name)
+                self.assertEqual(function.__module__, "commonhouse." + module)
+                self.assertEqual(len(inspect.signature(function).parameters), many, name)
+
+    def test_error_classes(self):
+        found = importlib.import_module("commonhouse.errors")
+        for name, fields in FIELDS.items():
+            kind = getattr(found, name)
+            self.assertTrue(inspect.isclass(kind), name)
+            if fields is not None:
+                self.assertIn("__init__", vars(kind), name)
+                self.assertEqual(list(inspect.signature(kind).parameters), fields)
+
+
+if __name__ == "__main__":
+    unittest.main()
