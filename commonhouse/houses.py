@@ -21,6 +21,13 @@ def is_thing(house, thing):
     return all(is_whole(number) and 0 <= number < limit for number, limit in zip(thing, house))
 
 
+def are_things(house, many, thing):
+    """Whether a thing, whatever it is, is a tuple of so many things of the house."""
+    if not isinstance(thing, tuple) or len(thing) != many:
+        return False
+    return all(is_thing(house, part) for part in thing)
+
+
 def need_thing(house, thing):
     """Refuse what is no thing of the house, whatever it is."""
     if not is_thing(house, thing):

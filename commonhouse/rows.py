@@ -30,9 +30,15 @@ def product(wide, one, other):
     return tuple([mixed(wide, row, other) for row in one])
 
 
+def straight(numbers):
+    """A row for each number, with it at its own place and 0 else."""
+    many = len(numbers)
+    return tuple([tuple([number if place == at else 0 for place in range(many)]) for at, number in enumerate(numbers)])
+
+
 def units(n):
     """n rows with 1 at their own place and 0 else."""
-    return tuple([tuple([int(place == at) for place in range(n)]) for at in range(n)])
+    return straight([1 for place in range(n)])
 
 
 def across(wide, rows):

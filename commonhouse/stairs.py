@@ -46,6 +46,11 @@ def walked_down(stair, row):
     return numbers, rest
 
 
+def is_reached(stair, word):
+    """Whether a word can be reached by a stair."""
+    return not any(walked_down(stair, word)[1])
+
+
 def parted(one, other):
     """Two rows by which the same can be reached, the second with 0 up to and at the first one's foot.
     One is not all 0.

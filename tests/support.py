@@ -5,6 +5,8 @@ import itertools
 import random
 import signal
 
+from commonhouse import errors
+
 EIGHT_DEEP = ((((((((1,),),),),),),),)
 
 # Things of many kinds. None of them is a house of two rounds, a thing of one, rows, a step or a given house.
@@ -14,6 +16,24 @@ ODD_THINGS = [
     (None, None), (True, False), (True, True), (1, True), ("1", "2"), ("", ""), ((), ()), ([], []), ((1,), (1,)),
     (1, None), (1, "1"), ("a",), ({}, {}), (b"a", b"b"),
 ]
+
+
+REFUSALS = [
+    errors.NoThing, errors.TooGreat, errors.Endless, errors.NoPaper, errors.NoFit, errors.NoTable, errors.NoText,
+    errors.NoName, errors.NoRow,
+]
+
+
+def refused(test, kind, asked, *handed):
+    """The refusal, which is caught as its own class, as HouseError, as ValueError, and as none of the others."""
+    before = repr(handed)
+    with test.assertRaises(kind, msg=before) as held:
+        asked(*handed)
+    test.assertIsInstance(held.exception, errors.HouseError)
+    test.assertIsInstance(held.exception, ValueError)
+    test.assertEqual([other for other in REFUSALS if isinstance(held.exception, other)], [kind])
+    test.assertEqual(repr(handed), before)
+    return held.exception
 
 
 def chance(seed):
@@ -28,6 +48,55 @@ def some_rows(source, many, wide, low, high):
 def all_things(house):
     """All things of a small house, reckoned apart from the program."""
     return list(itertools.product(*[range(limit) for limit in house]))
+
+
+def some_thing(source, house):
+    return tuple(source.randrange(limit) for limit in house)
+
+
+def sum_of(house, one, other):
+    """The sum of two things, reckoned apart from the program."""
+    return tuple((x + y) % limit for x, y, limit in zip(one, other, house))
+
+
+def many_times(house, many, thing):
+    """So many times a thing, reckoned apart from the program."""
+    return tuple(many * x % limit for x, limit in zip(thing, house))
+
+
+def lead(way, thing):
+    """Where a way leads a thing, reckoned apart from the program."""
+    one, other, images = way
+    found = (0,) * len(other)
+    for many, image in zip(thing, images):
+        found = sum_of(other, found, many_times(other, many, image))
+    return found
+
+
+def things_with_one(house):
+    """The things with 1 at one place, as far as the round lets them have it; they make all things."""
+    return [tuple(int(place == at) % limit for place, limit in enumerate(house)) for at in range(len(house))]
+
+
+def shows_a_way(one, other, way):
+    """Whether a told thing is a way between these two, by the document's words."""
+    if type(way) is not tuple or len(way) != 3 or way[:2] != (one, other) or not is_plain(way):
+        return False
+    images = way[2]
+    if type(images) is not tuple or len(images) != len(one):
+        return False
+    if not all(type(image) is tuple and len(image) == len(other) for image in images):
+        return False
+    if not all(0 <= x < limit for image in images for x, limit in zip(image, other)):
+        return False
+    return not any(any(many_times(other, limit, image)) for limit, image in zip(one, images))
+
+
+def there_and_back(there, back):
+    """Whether of two ways each takes the other one back: so on things with one 1, and so on all."""
+    return all(
+        lead(back, lead(there, thing)) == thing for thing in things_with_one(there[0])
+    ) and all(lead(there, lead(back, thing)) == thing for thing in things_with_one(back[0]))
 
 
 def times_product(one, other, wide):

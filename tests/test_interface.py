@@ -15,6 +15,12 @@ FUNCTIONS = {
     "diagonal": {"diagonal": 2},
     "given": {"is_given": 1},
     "words": {"nought_or_not": 2},
+    "papercheck": {"lets_paper": 2, "led_there": 2, "led_back": 2},
+    "papers": {"paper_of": 1},
+    "ways": {"is_way": 1, "led": 2, "stay": 1, "none_way": 2},
+    "waydeeds": {"then": 2, "plus_ways": 2, "minus_ways": 2, "times_way": 2},
+    "allways": {"many_ways": 2, "ways": 2, "ways_house": 2, "way_of": 3, "thing_of": 1},
+    "forms": {"form_of": 1, "to_form": 1},
 }
 
 FIELDS = {
