@@ -50,6 +50,73 @@ def all_things(house):
     return list(itertools.product(*[range(limit) for limit in house]))
 
 
+def turn_of(house, thing):
+    """The turn of a thing of a small house, by trying."""
+    return next(n for n in itertools.count(1) if not any(many_times(house, n, thing)))
+
+
+def made_by(house, some):
+    """The set of all things that some things make in a small house, reckoned apart from the program."""
+    found = {(0,) * len(house)}
+    for thing in some:
+        steps = [many_times(house, many, thing) for many in range(turn_of(house, thing))]
+        found = {sum_of(house, one, other) for one in found for other in steps}
+    return frozenset(found)
+
+
+def part_sets(house):
+    """All parts of a small house as sets of things, reckoned apart from the program."""
+    found = {made_by(house, ())}
+    fresh = list(found)
+    while fresh:
+        held = fresh.pop()
+        for thing in all_things(house):
+            if thing not in held:
+                steps = made_by(house, (thing,))
+                more = frozenset(sum_of(house, one, other) for one in held for other in steps)
+                if more not in found:
+                    found.add(more)
+                    fresh.append(more)
+    return found
+
+
+def reached_by(stair, word):
+    """Whether a stair reaches a word, reckoned apart from the program."""
+    word = list(word)
+    for row in stair:
+        foot = next(place for place, number in enumerate(row) if number != 0)
+        many = word[foot] // row[foot]
+        word = [x - many * y for x, y in zip(word, row)]
+    return not any(word)
+
+
+def shows_a_stair(wide, rows):
+    """Whether rows are a stair, by the document's words one by one."""
+    feet = [next((place for place in range(wide) if row[place] != 0), None) for row in rows]
+    if None in feet or any(row[foot] < 0 for row, foot in zip(rows, feet)):
+        return False
+    if any(one >= other for one, other in zip(feet, feet[1:])):
+        return False
+    return all(0 <= rows[above][foot] < rows[at][foot] for at, foot in enumerate(feet) for above in range(at))
+
+
+def shows_a_part(house, part):
+    """Whether a told thing is a part of the house, by the document's words."""
+    wide = len(house)
+    if type(part) is not tuple or len(part) != wide or not is_plain(part):
+        return False
+    if not all(type(row) is tuple and len(row) == wide for row in part) or not shows_a_stair(wide, part):
+        return False
+    return all(
+        reached_by(part, tuple(limit * int(place == at) for place in range(wide))) for at, limit in enumerate(house)
+    )
+
+
+def set_of(house, part):
+    """The things of a part of a small house, reckoned apart from the program."""
+    return frozenset(thing for thing in all_things(house) if reached_by(part, thing))
+
+
 def some_thing(source, house):
     return tuple(source.randrange(limit) for limit in house)
 

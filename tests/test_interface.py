@@ -21,6 +21,12 @@ FUNCTIONS = {
     "waydeeds": {"then": 2, "plus_ways": 2, "minus_ways": 2, "times_way": 2},
     "allways": {"many_ways": 2, "ways": 2, "ways_house": 2, "way_of": 3, "thing_of": 1},
     "forms": {"form_of": 1, "to_form": 1},
+    "apart": {"alike": 2, "apart_at": 2},
+    "byprimes": {"by_primes": 1, "from_primes": 1},
+    "parts": {"is_part": 2, "part_of": 2, "has": 3, "numbers_for": 3, "part_size": 2, "things_in": 2, "part_way": 2},
+    "partsums": {"joined": 3, "met": 3, "lies_within": 3},
+    "allparts": {"parts": 1, "parts_between": 3},
+    "kinds": {"how_many": 2, "kinds": 1},
 }
 
 FIELDS = {

@@ -10,26 +10,6 @@ from commonhouse.steps import stepped
 TWENTY = 10 ** 20 - 1
 
 
-def shows_a_stair(wide, rows):
-    """Whether rows are a stair, by the document's words one by one."""
-    feet = [next((place for place in range(wide) if row[place] != 0), None) for row in rows]
-    if None in feet or any(row[foot] < 0 for row, foot in zip(rows, feet)):
-        return False
-    if any(one >= other for one, other in zip(feet, feet[1:])):
-        return False
-    return all(0 <= rows[above][foot] < rows[at][foot] for at, foot in enumerate(feet) for above in range(at))
-
-
-def is_reached(stair, word):
-    """Whether a stair reaches a word, reckoned apart from the program."""
-    word = list(word)
-    for row in stair:
-        foot = next(place for place, number in enumerate(row) if number != 0)
-        many = word[foot] // row[foot]
-        word = [x - many * y for x, y in zip(word, row)]
-    return not any(word)
-
-
 class IsStair(unittest.TestCase):
     def test_stairs(self):
         for wide, rows in [(0, ()), (3, ()), (1, ((5,),)), (2, ((0, 7),)), (2, ((2, 4), (0, 5))), (3, ((1, -9, 0), (0, 0, 2))),
@@ -44,7 +24,7 @@ class IsStair(unittest.TestCase):
 
     def test_by_the_words_of_the_document(self):
         for rows in itertools.product(itertools.product((-1, 0, 1, 2), repeat=2), repeat=2):
-            self.assertIs(is_stair(2, rows), shows_a_stair(2, rows), rows)
+            self.assertIs(is_stair(2, rows), support.shows_a_stair(2, rows), rows)
 
 
 class Stairs(unittest.TestCase):
@@ -55,11 +35,11 @@ class Stairs(unittest.TestCase):
         self.assertIs(type(told), tuple)
         self.assertTrue(support.is_plain(stair) and support.is_plain(told))
         self.assertEqual(stair, again)
-        self.assertTrue(shows_a_stair(wide, stair), rows)
+        self.assertTrue(support.shows_a_stair(wide, stair), rows)
         self.assertTrue(is_stair(wide, stair))
         self.assertEqual([len(numbers) for numbers in mixings], [len(rows)] * len(stair))
         self.assertEqual(support.times_product(mixings, rows, wide), stair)
-        self.assertTrue(all(is_reached(stair, row) for row in rows), rows)
+        self.assertTrue(all(support.reached_by(stair, row) for row in rows), rows)
         self.assertEqual(stair_of(wide, stair), stair)
         for row in rows:
             self.check_reached(wide, rows, row)
