@@ -1,6 +1,7 @@
 """Parts joined and met, and whether one lies within another [22]."""
 
-from commonhouse.stairs import is_reached, stair_of
+from commonhouse.houses import nought
+from commonhouse.stairs import is_reached, stair_behind, stair_of
 
 
 def joined(house, first, second):
@@ -12,12 +13,10 @@ def met(house, first, second):
     """The part of all things that are in both."""
     # Each row of first stands twice, each of second once with 0 behind. Where rows so mixed come to 0
     # at the places ahead, first and second come to the same there but for the sign, and that is what
-    # stands behind; the last rows of the stair reach just these words.
-    wide = len(house)
+    # stands behind.
     twice = [row + row for row in first]
-    once = [(*row, *[0 for limit in house]) for row in second]
-    stair = stair_of(wide + wide, (*twice, *once))
-    return tuple([row[wide:] for row in stair if not any(row[:wide])])
+    once = [row + nought(house) for row in second]
+    return stair_behind(len(house), len(house), (*twice, *once))
 
 
 def lies_within(house, first, second):

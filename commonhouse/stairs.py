@@ -99,6 +99,12 @@ def stair_of(wide, rows):
     return tuple([tuple(row) for row in stair])
 
 
+def stair_behind(ahead, wide, rows):
+    """The stair of what rows reach with 0 at so many places ahead, of the places so wide behind them."""
+    # Of a stair's rows only those with 0 at all places ahead go into such words.
+    return tuple([row[ahead:] for row in stair_of(ahead + wide, rows) if not any(row[:ahead])])
+
+
 def with_units(rows):
     """The rows with a unit behind each, the units turned about: the last row has the first one."""
     return [row + unit for row, unit in zip(rows, units(len(rows))[::-1])]

@@ -2,6 +2,7 @@
 
 import contextlib
 import itertools
+import math
 import random
 import signal
 
@@ -17,6 +18,12 @@ ODD_THINGS = [
     (1, None), (1, "1"), ("a",), ({}, {}), (b"a", b"b"),
 ]
 
+# None of these is a thing of the house (4, 6).
+NO_THINGS = ODD_THINGS + [(), (0,), (0, 0, 0), (4, 0), (0, 6), (-1, 0), (0, -1), [0, 0], (10 ** 40, 0), ("0", 0), ((0, 0),)]
+
+SIX = (1000000, 720720, 999983, 524288, 531441, 999999)
+# Houses of six rounds, of rounds of 1, and told ones, which may be however great.
+GREAT = [SIX, (1000000,) * 6, (1, 1, 1, 1, 1, 1000000), (720720, 1, 360360), (12 * 10 ** 40, 10 ** 60, 6 * 10 ** 50)]
 
 REFUSALS = [
     errors.NoThing, errors.TooGreat, errors.Endless, errors.NoPaper, errors.NoFit, errors.NoTable, errors.NoText,
@@ -115,6 +122,60 @@ def shows_a_part(house, part):
 def set_of(house, part):
     """The things of a part of a small house, reckoned apart from the program."""
     return frozenset(thing for thing in all_things(house) if reached_by(part, thing))
+
+
+def nought_part(house):
+    """The part of nought alone."""
+    return tuple(tuple(limit * int(place == at) for place in range(len(house))) for at, limit in enumerate(house))
+
+
+def whole_part(house):
+    """The part of all things."""
+    return square_units(len(house))
+
+
+def stair_for(house, held):
+    """The part that tells a set of things of a small house, reckoned apart from the program."""
+    rows = []
+    for at, limit in reversed(list(enumerate(house))):
+        ahead = (0,) * at
+        # The foot is the least number at the place that such a thing has, the round if all have 0 there.
+        foot = min((thing[at] for thing in held if thing[:at] == ahead and thing[at]), default=limit)
+        some = [thing for thing in held if thing[:at + 1] == ahead + (foot % limit,)]
+        behind = next(
+            thing[at + 1:] for thing in some if all(0 <= thing[at + 1 + k] < rows[k][at + 1 + k] for k in range(len(rows)))
+        )
+        rows.insert(0, ahead + (foot,) + behind)
+    return tuple(rows)
+
+
+def some_way(source, one, other):
+    """A way from one to other, however great they are."""
+    images = []
+    for limit in one:
+        strides = [place // math.gcd(limit, place) for place in other]
+        images.append(tuple(source.randrange(place // stride) * stride for place, stride in zip(other, strides)))
+    return one, other, tuple(images)
+
+
+def some_turning(source, house, many=40):
+    """A turning of the house: steps that can be taken back, one behind the other; its houses however great."""
+    images = [list(thing) for thing in things_with_one(house)]
+    for _ in range(many if house else 0):
+        at, by = source.randrange(len(house)), source.randrange(len(house))
+        if at != by:
+            # The thing with 1 at this place is led to itself and a thing at another place, whose turn divides
+            # the round; all other such things are led to themselves.
+            stride = house[by] // math.gcd(house[by], house[at])
+            times = source.randrange(house[by] // stride) * stride
+            images[at] = [(x + times * y) % limit for x, y, limit in zip(images[at], images[by], house)]
+    return house, house, tuple(tuple(image) for image in images)
+
+
+def some_part(source, house, program, many=2):
+    """A part that some things make, some of them so many times others; program is part_of."""
+    some = [many_times(house, source.choice((1, 2, 3, 60, 1001)), some_thing(source, house)) for _ in range(many)]
+    return program(house, some)
 
 
 def some_thing(source, house):

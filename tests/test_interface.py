@@ -27,6 +27,12 @@ FUNCTIONS = {
     "partsums": {"joined": 3, "met": 3, "lies_within": 3},
     "allparts": {"parts": 1, "parts_between": 3},
     "kinds": {"how_many": 2, "kinds": 1},
+    "falls": {"falls": 1, "reached": 1, "part_along": 2, "part_back": 2},
+    "cuts": {"cut": 2, "folded": 1},
+    "turnings": {"is_turning": 1, "turned_back": 1, "many_turnings": 1, "turnings": 1},
+    "voices": {"says": 3, "sayings": 2, "parting_voice": 3},
+    "shut": {"shut": 2},
+    "sought": {"sought": 2},
 }
 
 FIELDS = {
