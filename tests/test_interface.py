@@ -1,4 +1,4 @@
-"""The interface: each name that has landed is there, and takes as many arguments by their places."""
+"""The interface: each name is there, and takes as many arguments by their places."""
 
 import importlib
 import inspect
@@ -33,6 +33,11 @@ FUNCTIONS = {
     "voices": {"says": 3, "sayings": 2, "parting_voice": 3},
     "shut": {"shut": 2},
     "sought": {"sought": 2},
+    "beside": {"beside": 2},
+    "tables": {"lets_table": 1, "table_of": 1},
+    "fromtable": {"names_of": 1, "lets_names": 2},
+    "texts": {"show_row": 1, "show_rows": 1, "show_given": 1, "show_paper": 1, "show_way": 1},
+    "reader": {"read_row": 1, "read_rows": 1, "read_house": 1, "read_given": 1, "read_paper": 1, "read_way": 1},
 }
 
 FIELDS = {
@@ -59,6 +64,13 @@ class Interface(unittest.TestCase):
             if fields is not None:
                 self.assertIn("__init__", vars(kind), name)
                 self.assertEqual(list(inspect.signature(kind).parameters), fields)
+
+    def test_desk(self):
+        desk = importlib.import_module("commonhouse.desk").Desk
+        self.assertTrue(inspect.isclass(desk))
+        self.assertEqual(list(inspect.signature(desk).parameters), [])
+        self.assertIn("say", vars(desk))
+        self.assertEqual(len(inspect.signature(desk.say).parameters), 2)
 
 
 if __name__ == "__main__":
